@@ -1,0 +1,1 @@
+"""Texts made plain at the doors of a store."""
