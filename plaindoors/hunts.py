@@ -32,31 +32,37 @@ class Hunt:
 
     def found(self):
         """Two such texts with as few letters as possible, or None."""
-        soon = [((0, 0, NEITHER), None, "", "")]
-        later = []
-        while soon or later:
-            now = soon
-            soon = later
-            later = []
-            for place, origin, first, second in now:
-                if self.was_met(place):
-                    continue
-                self.origins[place] = (origin, first, second)
-                if self.is_betrayed(place):
-                    return self.texts()
-                soon.extend(self.moves_alone(place))
-                later.extend(self.moves_together(place))
-            # Kept until here, because a betrayal is found with one letter less.
+        now = [((0, 0, NEITHER), None, "", "")]
+        soon = []
+        while now or soon:
+            singles, pairs = self.meet(now)
             if self.ending is not None:
                 return self.texts()
+            now = soon + singles
+            soon = pairs
         return None
+
+    def meet(self, entries):
+        """Meet the places of some entries; the entries to which one letter leads, and two letters."""
+        singles = []
+        pairs = []
+        for place, origin, first, second in entries:
+            if self.was_met(place):
+                continue
+            self.origins[place] = (origin, first, second)
+            # One letter is better than the two of an ending that another place may have noted.
+            if self.note_betrayal(place):
+                break
+            singles.extend(self.moves_alone(place))
+            pairs.extend(self.moves_together(place))
+        return singles, pairs
 
     def was_met(self, place):
         """Whether the search was here, or here with more freedom to go on."""
         return place in self.origins or (place[0], place[1], NEITHER) in self.origins
 
-    def is_betrayed(self, place):
-        """Whether one letter of one side tells the texts apart; it is kept then."""
+    def note_betrayal(self, place):
+        """Note a letter of one side that tells the texts apart; whether there is one."""
         left, right, _ = place
         self.left.unfold(left)
         self.right.unfold(right)
@@ -87,7 +93,10 @@ class Hunt:
         return moves
 
     def moves_together(self, place):
-        """Where two letters lead, one for each side, of which the matched rows write the same."""
+        """Where two letters lead, one for each side, of which the matched rows write the same.
+
+        Where the measured rows do not, this is noted as an ending.
+        """
         left, right, waster = place
         spoken = self.right.spoken[right]
         moves = []

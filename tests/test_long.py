@@ -8,7 +8,8 @@ from plaindoors.foldings import Folding
 from tests.plain import CHARACTERS, least_by_states, made
 
 NAMED = "abcdAB"
-LOOKED_AT = "abcdeABCDE-"
+# All that the steps name here, in both cases, another letter and characters that are none.
+LOOKED_AT = "abcdefghzABCDEFGHZ-01_"
 
 
 def random_step(chance, weights):
@@ -93,8 +94,8 @@ class LongTest(unittest.TestCase):
             self.check(self.told(rows), rows, least)
 
     def test_of_many_states(self):
-        # The least lengths are those of least_by_states, which takes minutes for some of them.
         for rows, least in SLOW:
+            self.assertEqual(least_by_states(*rows, LOOKED_AT), least)
             self.check(self.told(rows), rows, least)
 
     def test_one_text(self):
@@ -149,16 +150,108 @@ class LongTest(unittest.TestCase):
 LONG = (
     (
         (
-            (("lead", "a"), ("once", "a"), ("drop", "b"), ("cut", 9)),
-            (("lead", "a"), ("once", "a"), ("drop", "b"), ("cut", 9)),
+            (("lead", "a"), ("once", "a"), ("drop", "b"), ("drop", "b"), ("cut", 9)),
+            (("lead", "a"), ("once", "a"), ("drop", "b"), ("drop", "b"), ("cut", 9)),
             (("drop", "b"), ("lead", "a"), ("once", "b"), ("once", "a"), ("cut", 3)),
             (("drop", "b"), ("lead", "a"), ("once", "b"), ("once", "a"), ("cut", 3)),
         ),
         33,
     ),
+    (
+        (
+            (("lead", "a"), ("lead", "b"), ("lead", "a"), ("once", "b"), ("lead", "b"), ("drop", "a")),
+            (("lead", "a"), ("lead", "b"), ("once", "b"), ("drop", "a"), ("cut", 9), ("swap", "a", "b")),
+            (("once", "b"), ("once", "b"), ("drop", "a"), ("lead", "b"), ("cut", 3), ("once", "a")),
+            (("lead", "b"), ("once", "b"), ("drop", "a"), ("lead", "b"), ("cut", 3), ("once", "a")),
+        ),
+        37,
+    ),
+    (
+        (
+            (("lead", "f"), ("once", "c"), ("drop", "cdf"), ("drop", "def")),
+            (("once", "b"), ("once", "c"), ("once", "c"), ("once", "e")),
+            (("drop", "adf"), ("once", "b"), ("drop", "ce"), ("cut", 9), ("once", "b"), ("cut", 3)),
+            (("drop", "ade"), ("once", "b"), ("cut", 3), ("cut", 5), ("cut", 5), ("cut", 7)),
+        ),
+        41,
+    ),
+    (
+        (
+            (("once", "c"), ("lead", "b"), ("lead", "a"), ("once", "b"), ("once", "a")),
+            (("once", "b"), ("drop", "a"), ("lead", "a")),
+            (("drop", "ab"), ("once", "a"), ("once", "c"), ("once", "b"), ("once", "b"), ("cut", 3)),
+            (("drop", "a"), ("drop", "ab"), ("cut", 9), ("once", "c"), ("once", "b"), ("cut", 3)),
+        ),
+        34,
+    ),
 )
 
-SLOW = ()
+# These take the program longest of all that were tried.
+SLOW = (
+    (
+        (
+            (("once", "a"), ("once", "A"), ("drop", "ADace"), ("once", "B"), ("cut", 9), ("drop", "ABadefg")),
+            (("once", "a"), ("once", "A"), ("drop", "ADace"), ("once", "B"), ("cut", 9), ("drop", "ABaefg")),
+            (("drop", "1Badg"), ("once", "b"), ("cut", 9), ("once", "c"), ("drop", "0ADbcdefg"), ("lead", "-")),
+            (("drop", "1Badg"), ("once", "b"), ("cut", 9), ("once", "c"), ("drop", "0ADbcdefg"), ("lead", "-")),
+        ),
+        10,
+    ),
+    (
+        (
+            (("once", "a"), ("once", "A"), ("drop", "Aace"), ("cut", 9), ("once", "B"), ("drop", "ABadef")),
+            (("once", "a"), ("once", "A"), ("drop", "Aace"), ("cut", 9), ("once", "B"), ("drop", "ABadef")),
+            (("drop", "-Bad"), ("once", "c"), ("once", "b"), ("cut", 9), ("drop", "0ABabcdef"), ("cut", 5)),
+            (("drop", "-Bad"), ("once", "c"), ("once", "b"), ("cut", 9), ("drop", "0ABabcdef"), ("cut", 5)),
+        ),
+        10,
+    ),
+    (
+        (
+            (("once", "e"), ("drop", "-01Eaef"), ("once", "c"), ("cut", 8), ("once", "b"), ("drop", "BCDbcd")),
+            (("once", "e"), ("drop", "-01Eaef"), ("once", "c"), ("cut", 8), ("once", "b"), ("drop", "BCDbcd")),
+            (("drop", "1Cbh"), ("cut", 8), ("drop", "-Aabcef"), ("once", "d"), ("drop", "-01BCDEcde"), ("cut", 5)),
+            (("drop", "01Cbh"), ("cut", 8), ("drop", "-Aabcef"), ("once", "d"), ("drop", "01BCDEcdef"), ("cut", 5)),
+        ),
+        9,
+    ),
+    (
+        (
+            (("once", "d"), ("once", "f"), ("lower",), ("once", "d"), ("cut", 9), ("drop", "-1ACEaf")),
+            (("once", "d"), ("once", "f"), ("lower",), ("once", "d"), ("cut", 9), ("drop", "-1ACEaf")),
+            (("drop", "-1ABade"), ("lower",), ("cut", 9), ("once", "f"), ("cut", 8), ("drop", "BDEbdef")),
+            (("drop", "-1ABade"), ("lower",), ("cut", 9), ("once", "f"), ("cut", 8), ("drop", "BDEbdef")),
+        ),
+        10,
+    ),
+    (
+        (
+            (("once", "a"), ("once", "e"), ("drop", "Aace"), ("once", "B"), ("once", "f"), ("drop", "ABCdef")),
+            (("once", "a"), ("once", "e"), ("drop", "Aace"), ("once", "B"), ("once", "f"), ("drop", "ABCdef")),
+            (("drop", "Aabe"), ("once", "c"), ("drop", "BCacf"), ("once", "d"), ("drop", "ACadef"), ("cut", 9)),
+            (("drop", "abe"), ("once", "c"), ("drop", "BCacf"), ("once", "d"), ("drop", "ACdef"), ("cut", 9)),
+        ),
+        None,
+    ),
+    (
+        (
+            (("once", "C"), ("once", "B"), ("drop", "BCb"), ("once", "d"), ("drop", "-Cd"), ("cut", 9)),
+            (("cut", 5), ("once", "C"), ("once", "-"), ("drop", "-BCd"), ("once", "f"), ("once", "e")),
+            (("drop", "ABCacdef"), ("once", "b"), ("swap", "-", "d"), ("lead", "b"), ("drop", "Abcdf"), ("cut", 7)),
+            (("cut", 5), ("once", "d"), ("once", "c"), ("drop", "-BCcdef"), ("once", "a"), ("drop", "-ABCabdef")),
+        ),
+        None,
+    ),
+    (
+        (
+            (("cut", 8), ("once", "A"), ("once", "a"), ("drop", "adef"), ("once", "A"), ("swap", "B", "A")),
+            (("cut", 8), ("once", "A"), ("once", "a"), ("drop", "adef"), ("once", "A"), ("swap", "B", "A")),
+            (("cut", 8), ("drop", "Aa"), ("once", "d"), ("once", "B"), ("drop", "-BCbcdef"), ("lead", "B")),
+            (("cut", 8), ("drop", "Aa"), ("once", "B"), ("once", "d"), ("drop", "-BCbcdef"), ("lead", "B")),
+        ),
+        None,
+    ),
+)
 
 
 if __name__ == "__main__":
