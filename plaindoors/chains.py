@@ -1,5 +1,6 @@
 """A row of steps as a machine that reads a text of any length, letter by letter."""
 
+from plaindoors.numbering import Numbering
 from plaindoors.steps import made_by_step
 
 REMEMBERING = ("lead", "once", "cut")
@@ -20,32 +21,31 @@ class Chain:
         remembering = [step for step in steps if step[0] in REMEMBERING]
         self.names = [step[0] for step in remembering]
         self.ways = [_way(steps, letter) for letter in letters]
-        start = self.narrowed([_beginning(step) for step in remembering])
-        self.states = [start]
-        self.numbers = {start: 0}
+        self.known = Numbering()
+        self.known.number_of(self.narrowed([_beginning(step) for step in remembering]))
         self.rows = {}
 
     def row(self, number):
         """For each letter what is written, and the number of the next state."""
         if number not in self.rows:
-            state = self.states[number]
+            state = self.known.state_of(number)
             self.rows[number] = [self.move(state, way) for way in self.ways]
         return self.rows[number]
 
     def move(self, state, way):
         """What is written of a letter that goes this way, and the number of the next state."""
         if state == DEAD:
-            return "", self.numbers[DEAD]
+            return "", self.known.number_of(DEAD)
         meetings, written = way
         new = list(state)
         for at, own in enumerate(meetings):
             if self.names[at] == "cut":
                 new[at] = new[at] - 1
             elif own and new[at] == 1:
-                return "", self.number_of(self.narrowed(new))
+                return "", self.known.number_of(self.narrowed(new))
             else:
                 new[at] = 1 if own and self.names[at] == "once" else 0
-        return written, self.number_of(self.narrowed(new))
+        return written, self.known.number_of(self.narrowed(new))
 
     def narrowed(self, state):
         """The state as a tuple, the same one for states that do not differ in what may follow."""
@@ -59,17 +59,10 @@ class Chain:
             new.append(number)
         return DEAD if least == 0 else tuple(new)
 
-    def number_of(self, state):
-        """The number of a state, a new one if it was not met before."""
-        if state not in self.numbers:
-            self.numbers[state] = len(self.states)
-            self.states.append(state)
-        return self.numbers[state]
-
     def covers(self, number, other):
         """Whether all that may be written from the other state may be from this one, of no more letters."""
-        strong = self.states[number]
-        weak = self.states[other]
+        strong = self.known.state_of(number)
+        weak = self.known.state_of(other)
         if strong == weak or weak == DEAD:
             return True
         if strong == DEAD:

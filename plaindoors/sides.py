@@ -1,6 +1,7 @@
 """One of the two texts of a comparison: what two rows of steps write of it."""
 
 from plaindoors.chains import Chain
+from plaindoors.numbering import Numbering
 
 
 class Move:
@@ -26,8 +27,8 @@ class Side:
         self.letters = letters
         self.matched = Chain(matched, letters)
         self.measured = Chain(measured, letters)
-        self.states = [(0, 0)]
-        self.numbers = {(0, 0): 0}
+        self.known = Numbering()
+        self.known.number_of((0, 0))
         self.betraying = {}
         self.silent = {}
         self.spoken = {}
@@ -36,7 +37,8 @@ class Side:
         """Work out the moves from a state, once."""
         if number in self.silent:
             return
-        matched, measured = self.states[number]
+        state = self.known.state_of(number)
+        matched, measured = state
         silent = []
         spoken = {}
         self.betraying[number] = ""
@@ -47,9 +49,9 @@ class Side:
                 spoken.setdefault(written, []).append((letter, told, (behind, beside)))
             elif told != "":
                 self.betraying[number] = letter
-            elif (behind, beside) != self.states[number]:
+            elif (behind, beside) != state:
                 silent.append((letter, told, (behind, beside)))
-        # A silent move to a state that this one covers is a letter for nothing.
+        # A silent move is a letter for nothing where the state before it covers the one behind it.
         self.silent[number] = self.thinned(silent, [matched])
         self.spoken[number] = {written: self.thinned(spoken[written], []) for written in spoken}
 
@@ -65,7 +67,7 @@ class Side:
             thrifty = state[0] in needed
             if thrifty:
                 needed.remove(state[0])
-            moves.append(Move(letter, told, self.number_of(state), thrifty))
+            moves.append(Move(letter, told, self.known.number_of(state), thrifty))
         return moves
 
     def needed(self, numbers, better):
@@ -76,10 +78,3 @@ class Side:
                 needed = [other for other in needed if not self.matched.covers(number, other)]
                 needed.append(number)
         return needed
-
-    def number_of(self, state):
-        """The number of a state, a new one if it was not met before."""
-        if state not in self.numbers:
-            self.numbers[state] = len(self.states)
-            self.states.append(state)
-        return self.numbers[state]
