@@ -1,11 +1,11 @@
 """Foldings compared, for texts of any length."""
 
-from plaindoors.hunts import parted
+from plaindoors.hunts import hunt_for, shortest
 
 
 def parting(first, second, third, fourth):
     """Two texts of which `first` and `second` make the same, `third` and `fourth` do not, or None."""
-    return parted(first.steps(), second.steps(), third.steps(), fourth.steps())
+    return _parted(first.steps(), second.steps(), third.steps(), fourth.steps())
 
 
 def unlike(folding, other):
@@ -25,7 +25,7 @@ def exchanged(folding, other):
 
 def coarser(folding, other):
     """Two texts of which `other` makes the same and `folding` does not, or None."""
-    return parted(other.steps(), other.steps(), folding.steps(), folding.steps())
+    return _parted(other.steps(), other.steps(), folding.steps(), folding.steps())
 
 
 def needless(folding):
@@ -33,8 +33,14 @@ def needless(folding):
     return [index for index in range(len(folding)) if unlike(folding, folding.without(index)) is None]
 
 
+def _parted(first, second, third, fourth):
+    """Two texts of which the first two rows of steps make the same, the others do not, or None."""
+    told = shortest([hunt_for(first, second, third, fourth)])
+    return None if told is None else told[1:]
+
+
 def _split(steps, others):
     """A shortest text of which the two rows of steps make different ones, or None."""
     # Rows without steps match a text with itself only.
-    pair = parted((), (), steps, others)
+    pair = _parted((), (), steps, others)
     return None if pair is None else pair[0]

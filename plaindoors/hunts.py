@@ -29,18 +29,18 @@ class Hunt:
         self.right = right
         self.origins = {}
         self.ending = None
+        self.now = [((0, 0, NEITHER), None, "", "")]
+        self.soon = []
 
-    def found(self):
-        """Two such texts with as few letters as possible, or None."""
-        now = [((0, 0, NEITHER), None, "", "")]
-        soon = []
-        while now or soon:
-            singles, pairs = self.meet(now)
-            if self.ending is not None:
-                return self.texts()
-            now = soon + singles
-            soon = pairs
-        return None
+    def is_over(self):
+        """Whether there are no places left to meet."""
+        return not self.now and not self.soon
+
+    def go_on(self):
+        """Meet the places to which one letter more leads than to those that were met last."""
+        singles, pairs = self.meet(self.now)
+        self.now = self.soon + singles
+        self.soon = pairs
 
     def meet(self, entries):
         """Meet the places of some entries; the entries to which one letter leads, and two letters."""
@@ -135,7 +135,25 @@ def _spender(waster, first, second):
     return waster
 
 
-def parted(first, second, third, fourth):
-    """Shortest texts of which the first two rows of steps make the same, the others do not, or None."""
+def hunt_for(first, second, third, fourth):
+    """The search for texts of which the first two rows of steps make the same, the others do not."""
     letters = letters_for((first, second, third, fourth))
-    return Hunt(Side(first, third, letters), Side(second, fourth, letters)).found()
+    return Hunt(Side(first, third, letters), Side(second, fourth, letters))
+
+
+def shortest(hunts):
+    """The index of a search whose two texts have the fewest letters together, and these; or None.
+
+    The searches go on side by side, so that none goes farther than the shortest texts are long.
+    """
+    while not all([hunt.is_over() for hunt in hunts]):
+        found = []
+        for at, hunt in enumerate(hunts):
+            hunt.go_on()
+            if hunt.ending is not None:
+                first, second = hunt.texts()
+                found.append((len(first + second), at, first, second))
+        # Texts that are found at the same time may differ by a letter; those found later have no fewer.
+        if found:
+            return min(found)[1:]
+    return None
