@@ -126,3 +126,37 @@ def least_by_states(first, second, third, fourth, characters):
                         waiting[1].append((one[2], other[2]))
                     elif least is None:
                         least = length + 2
+
+
+def told_by(doors, deeds):
+    """The answers of a store to deeds; the doors are rows of steps for put, find and strike."""
+    forms = []
+    told = []
+    for name, text in deeds:
+        form = made(doors[("put", "find", "strike").index(name)], text)
+        there = form in forms
+        if name == "put" and not there:
+            forms.append(form)
+        if name == "strike" and there:
+            forms.remove(form)
+        told.append(there != (name == "put"))
+    return told
+
+
+def breaks(doors, deeds):
+    """Whether deeds are answered otherwise than wished; the doors are put, find, strike, wish."""
+    return told_by(doors[:3], deeds) != told_by((doors[3],) * 3, deeds)
+
+
+def least_break(doors, characters):
+    """The fewest characters of a break of two deeds, by the states of the steps, or None.
+
+    A store is empty before its first put, so that no deed tells anything; behind the put of x,
+    the answer to a deed with y tells whether the two have one form.
+    """
+    put, wish = doors[0], doors[3]
+    least = []
+    for door in doors[:3]:
+        least.append(least_by_states(put, door, wish, wish, characters))
+        least.append(least_by_states(wish, wish, put, door, characters))
+    return min((length for length in least if length is not None), default=None)
