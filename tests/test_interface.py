@@ -5,16 +5,52 @@ import inspect
 import pathlib
 import unittest
 
-from plaindoors import compare, errors, foldings
+from plaindoors import compare, doors, errors, foldings, shelves, texts
 
 PACKAGE = pathlib.Path(foldings.__file__).parent
 FUNCTIONS = {
-    "parting": ["first", "second", "third", "fourth"],
-    "unlike": ["folding", "other"],
-    "unsettled": ["folding"],
-    "exchanged": ["folding", "other"],
-    "coarser": ["folding", "other"],
-    "needless": ["folding"],
+    compare: {
+        "parting": ["first", "second", "third", "fourth"],
+        "unlike": ["folding", "other"],
+        "unsettled": ["folding"],
+        "exchanged": ["folding", "other"],
+        "coarser": ["folding", "other"],
+        "needless": ["folding"],
+    },
+    doors: {
+        "answers": ["doors", "deeds"],
+        "wished": ["doors", "deeds"],
+        "first_break": ["doors"],
+        "are_right": ["doors"],
+        "fewest_folded": ["doors"],
+    },
+    texts: {
+        "folding_text": ["folding"],
+        "read_folding": ["text"],
+        "doors_text": ["doors"],
+        "read_doors": ["text"],
+    },
+}
+CLASSES = {
+    foldings: {
+        "Folding": {
+            "__init__": ["steps"], "__call__": ["text"], "steps": [], "without": ["index"], "__len__": [],
+            "__getitem__": None, "__eq__": None, "__add__": None, "__contains__": None,
+        },
+    },
+    doors: {
+        "Doors": {
+            "__init__": ["put", "find", "strike", "wish"], "put": [], "find": [], "strike": [], "wish": [],
+            "folded": ["names"], "__eq__": None,
+        },
+    },
+    shelves: {
+        "Shelf": {
+            "__init__": ["doors"], "put": ["text"], "find": ["text"], "strike": ["text"], "put_all": ["texts"],
+            "trial": ["texts"], "change": ["doors"], "undo": [], "forms": [], "first_text": ["form"], "__len__": [],
+            "__contains__": None,
+        },
+    },
 }
 ERRORS = {
     "NoStep": ["index"],
@@ -32,10 +68,28 @@ def defined(module):
 
 
 class InterfaceTest(unittest.TestCase):
-    def test_compare(self):
-        for name, parameters in FUNCTIONS.items():
-            self.assertIn(name, defined(compare))
-            self.assertEqual(list(inspect.signature(getattr(compare, name)).parameters), parameters)
+    def test_functions(self):
+        for module, functions in FUNCTIONS.items():
+            for name, parameters in functions.items():
+                self.assertIn(name, defined(module))
+                self.assertEqual(list(inspect.signature(getattr(module, name)).parameters), parameters)
+
+    def test_classes(self):
+        for module, classes in CLASSES.items():
+            for name, methods in classes.items():
+                self.assertIn(name, defined(module))
+                for method, parameters in methods.items():
+                    self.assertIn(method, vars(getattr(module, name)))
+                    if parameters is not None:
+                        told = inspect.signature(vars(getattr(module, name))[method]).parameters
+                        self.assertEqual(list(told), ["self"] + parameters)
+
+    def test_defaults(self):
+        self.assertEqual(inspect.signature(foldings.Folding).parameters["steps"].default, ())
+
+    def test_property(self):
+        self.assertIsInstance(vars(shelves.Shelf)["doors"], property)
+        self.assertIsNotNone(shelves.Shelf.doors.fset)
 
     def test_errors(self):
         for name, fields in ERRORS.items():
@@ -43,15 +97,6 @@ class InterfaceTest(unittest.TestCase):
             self.assertEqual(list(inspect.signature(getattr(errors, name)).parameters), fields)
         for name in ("PlainError", "NoText", "NoDoor", "NothingToUndo"):
             self.assertIn(name, defined(errors))
-
-    def test_folding(self):
-        self.assertIn("Folding", defined(foldings))
-        steps = inspect.signature(foldings.Folding).parameters["steps"]
-        self.assertEqual(steps.default, ())
-        for name in ("__call__", "__getitem__", "__len__", "__eq__", "__add__", "__contains__", "steps", "without"):
-            self.assertIn(name, vars(foldings.Folding))
-        self.assertEqual(list(inspect.signature(foldings.Folding.__call__).parameters), ["self", "text"])
-        self.assertEqual(list(inspect.signature(foldings.Folding.without).parameters), ["self", "index"])
 
 
 class FilesTest(unittest.TestCase):
